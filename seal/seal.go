@@ -3,39 +3,25 @@ package seal
 
 import (
 	"signet/api"
+	"signet/book"
+	"signet/sum"
 	"signet/tree"
 )
 
-const (
-	firstSum  = 5381 // of no bytes
-	sumFactor = 33
-	sumBytes  = 2    // of a sum
-	maxClimb  = 4096 // leaves of a tree that is climbed
-)
+const maxClimb = 4096 // leaves of a tree that is climbed
 
 // Sum is the sum of some bytes (P3).
-func Sum(text string) string {
-	h := firstSum
-	for i := range len(text) {
-		h = (h*sumFactor + int(text[i]) + 1) % api.Mod
-	}
-	return string([]byte{byte(h >> 8), byte(h)})
-}
+func Sum(text string) string { return sum.Of(text) }
 
 // Root is the root of a tree over some texts (P4).
-func Root(leaves []string) string {
-	if len(leaves) == 0 {
-		return Sum("")
-	}
-	return sums().Root(leaves)
-}
+func Root(leaves []string) string { return sum.Root(leaves) }
 
 // Path is the way from a leaf to the root (P4).
 func Path(leaves []string, at int) ([]string, api.Errno) {
 	if at < 0 || at >= len(leaves) {
 		return nil, api.ErrArg
 	}
-	return sums().Path(leaves, at), api.OK
+	return sum.Trees().Path(leaves, at), api.OK
 }
 
 // Climb is the root to which a way leads (P4).
@@ -43,7 +29,7 @@ func Climb(leaf string, at int, many int, path []string) (string, api.Errno) {
 	if many < 1 || many > maxClimb || at < 0 || at >= many || !isPath(path, at, many) {
 		return "", api.ErrArg
 	}
-	return sums().Climb(leaf, at, many, path), api.OK
+	return sum.Trees().Climb(leaf, at, many, path), api.OK
 }
 
 // isPath: whether a path has the form of one of this leaf among so many.
@@ -52,23 +38,21 @@ func isPath(path []string, at, many int) bool {
 		return false
 	}
 	for _, text := range path {
-		if len(text) != sumBytes {
+		if len(text) != sum.Size {
 			return false
 		}
 	}
 	return true
 }
 
-// sums builds trees of sums. What a leaf and what a node is summed over begin with different bytes, so that a node's text is never a leaf's.
-func sums() tree.Builder {
-	return tree.Builder{
-		Leaf: func(text string) string { return Sum("\x00" + text) },
-		Node: func(left, right string) string { return Sum("\x01" + left + right) },
-	}
-}
-
 // Seal closes a history and seals it (P5, P6).
-func Seal(h api.History) (string, string, api.Errno) { return "", "", api.OK }
+func Seal(h api.History) (string, string, api.Errno) {
+	b, errno := book.Close(h)
+	if errno != api.OK {
+		return "", "", errno
+	}
+	return b.Text(), b.Head(), api.OK
+}
 
 // Decode reads a package (P7).
 func Decode(text string) (api.History, api.Errno) { return api.History{}, api.OK }
