@@ -1,4 +1,4 @@
-// Package book: histories that were closed, and what is made of them, as a package, a header or a statement has it: see DOC.md, P5 and P6.
+// Package book: histories that were closed, and what is made of them, as a package, a header or a statement has it: see DOC.md, P5 to P7.
 package book
 
 import (

@@ -1,4 +1,4 @@
-// Package lay: numbers laid down in bytes, the highest first: see DOC.md, 'Words'.
+// Package lay: numbers laid down in bytes, the highest first, and read again: see DOC.md, 'Words'.
 package lay
 
 // One is a number of 0 to 255 in one byte.

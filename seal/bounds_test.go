@@ -8,7 +8,7 @@ import (
 	"signet/api"
 )
 
-// holds: h is sealed if it is in bounds, and refused with ErrArg if not.
+// holds: h is sealed and its text read again if it is in bounds; if not, it is refused with ErrArg, and its text is no package.
 func holds(t *testing.T, what string, h api.History, inBounds bool) {
 	t.Helper()
 	if inBounds {
@@ -16,6 +16,7 @@ func holds(t *testing.T, what string, h api.History, inBounds bool) {
 	} else {
 		refuses(t, "P5: "+what, h, api.ErrArg)
 	}
+	laid(t, "P7: "+what, h, inBounds)
 }
 
 // wide is a history of several accounts, periods and entries, so that a thing out of bounds can stand first, last and between.

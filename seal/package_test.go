@@ -170,8 +170,8 @@ func TestEachThingIsInThePackage(t *testing.T) {
 	}
 }
 
-// All that can be at once: as many accounts, periods, entries, postings and bytes as may be, 72 drills in one line.
-func TestPackageAtAllBounds(t *testing.T) {
+// atAllBounds is all that can be at once: as many accounts, periods, entries, postings and bytes as may be, 72 drills in one line.
+func atAllBounds() api.History {
 	var h api.History
 	for i := range api.MaxAccounts {
 		h.Accounts = append(h.Accounts, api.Account{Name: strings.Repeat("n", api.MaxName-1) + refNumber(i, 1), Line: 3})
@@ -179,15 +179,20 @@ func TestPackageAtAllBounds(t *testing.T) {
 	for range api.MaxPeriods {
 		var p api.Period
 		for i := range api.MaxEntries {
-			p.Entries = append(p.Entries, entry(strings.Repeat("\xff", api.MaxMemo), 7, i, 0, -i, 7, 0, 3, most, 4, least, 3, 1))
+			p.Entries = append(p.Entries, entry(strings.Repeat("\xff", api.MaxMemo), 7, i, 0, -i, 7, 0, 3, most, 3, least, 3, 1))
 		}
 		h.Periods = append(h.Periods, p)
 	}
-	refuses(t, "P5: at all bounds, and over", h, api.ErrOverflow)
+	return h
+}
+
+func TestPackageAtAllBounds(t *testing.T) {
+	h := atAllBounds()
+	agrees(t, "P6: at all bounds", h, api.OK)
 	for i := range h.Periods {
 		for j := range h.Periods[i].Entries {
-			h.Periods[i].Entries[j].Postings[4].Account = 3
+			h.Periods[i].Entries[j].Postings[4].Account = 4
 		}
 	}
-	agrees(t, "P6: at all bounds", h, api.OK)
+	refuses(t, "P5: at all bounds, and over", h, api.ErrOverflow)
 }

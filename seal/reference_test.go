@@ -82,7 +82,17 @@ func (l refLedger) balance(account, period, entries int) *big.Int {
 }
 
 func (l refLedger) total(line, period int) *big.Int {
-	return l.came(period, period, api.MaxEntries, func(a int) bool { return l.h.Accounts[a].Line == line })
+	return l.came(period, period, most, func(a int) bool { return l.inLine(a, line) })
+}
+
+func (l refLedger) inLine(account, line int) bool {
+	return account >= 0 && account < len(l.h.Accounts) && l.h.Accounts[account].Line == line
+}
+
+// in64 is a sum as it wraps round, if it is none of the numbers of 64 bits.
+func in64(sum *big.Int) int {
+	low := new(big.Int).And(sum, new(big.Int).SetUint64(1<<64-1))
+	return int(low.Uint64())
 }
 
 // wrong is P5's first thing that is wrong in a history that is in bounds.
@@ -117,7 +127,7 @@ func (l refLedger) wrong() api.Errno {
 func (l refLedger) balances(period int) string {
 	text := ""
 	for a := range l.h.Accounts {
-		text += refNumber(int(l.balance(a, period, api.MaxEntries).Int64()), 8)
+		text += refNumber(in64(l.balance(a, period, most)), 8)
 	}
 	return text
 }
@@ -126,20 +136,26 @@ func (l refLedger) leaf(line, period int) string {
 	var drills []string
 	for i, e := range l.h.Periods[period].Entries {
 		for j, p := range e.Postings {
-			if l.h.Accounts[p.Account].Line == line {
+			if l.inLine(p.Account, line) {
 				drills = append(drills, refNumber(i, 1)+refNumber(j, 1)+refNumber(p.Account, 1)+refNumber(p.Amount, 8))
 			}
 		}
 	}
-	return refNumber(line, 1) + refNumber(int(l.total(line, period).Int64()), 8) + refNumber(len(drills), 2) + refRoot(drills)
+	return refNumber(line, 1) + refNumber(in64(l.total(line, period)), 8) + refNumber(len(drills), 2) + refRoot(drills)
 }
 
 // refSeal is P5 and P6 told once more, of a history that is in bounds.
 func refSeal(h api.History) (text, head string, errno api.Errno) {
-	l := refLedger{h}
-	if e := l.wrong(); e != api.OK {
+	if e := (refLedger{h}).wrong(); e != api.OK {
 		return "", "", e
 	}
+	text, head = refLay(h)
+	return text, head, api.OK
+}
+
+// refLay lays down any history as if it were one that can be sealed: what does not fit into its bytes wraps round.
+func refLay(h api.History) (text, head string) {
+	l := refLedger{h}
 	text, head = "SIGN"+refChart(h.Accounts)+refNumber(len(h.Periods), 1), "\x00\x00"
 	for i, p := range h.Periods {
 		var entries, leaves []string
@@ -150,12 +166,12 @@ func refSeal(h api.History) (text, head string, errno api.Errno) {
 		}
 		text += l.balances(i)
 		for line := range api.Lines {
-			text += refNumber(int(l.total(line, i).Int64()), 8)
+			text += refNumber(in64(l.total(line, i)), 8)
 			leaves = append(leaves, l.leaf(line, i))
 		}
 		head = refSum("HEAD" + refNumber(i, 1) + head + refSum(refChart(h.Accounts)) + refNumber(len(p.Entries), 1) + refRoot(entries) + refRoot(leaves) + refSum(l.balances(i)))
 	}
-	return text, head, api.OK
+	return text, head
 }
 
 // seals: Seal answers of h what these are.

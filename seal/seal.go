@@ -55,7 +55,20 @@ func Seal(h api.History) (string, string, api.Errno) {
 }
 
 // Decode reads a package (P7).
-func Decode(text string) (api.History, api.Errno) { return api.History{}, api.OK }
+func Decode(text string) (api.History, api.Errno) {
+	b, errno := book.Read(text)
+	if errno != api.OK {
+		return api.History{}, errno
+	}
+	return b.History(), api.OK
+}
 
 // Extend seals a package with a period more (P7).
-func Extend(text string, p api.Period) (string, string, api.Errno) { return "", "", api.OK }
+func Extend(text string, p api.Period) (string, string, api.Errno) {
+	h, errno := Decode(text)
+	if errno != api.OK {
+		return "", "", errno
+	}
+	h.Periods = append(h.Periods, p)
+	return Seal(h)
+}

@@ -21,13 +21,20 @@ type wrongCase struct {
 	want    api.Errno
 }
 
-// tellAll holds each case against Seal, as it is and behind a period in which nothing is wrong.
+// tellAll holds each case against Seal, Decode and Extend, as it is and behind a period in which nothing is wrong.
 func tellAll(t *testing.T, cases []wrongCase) {
 	t.Helper()
 	for _, c := range cases {
-		agrees(t, "P5: "+c.what, books(c.periods...), c.want)
-		agrees(t, "P5: behind a period: "+c.what, books(append([]api.Period{period(entry("", 0, 0, 3, 0))}, c.periods...)...), c.want)
+		tell(t, c.what, books(c.periods...), c.want)
+		tell(t, "behind a period: "+c.what, books(append([]api.Period{period(entry("", 0, 0, 3, 0))}, c.periods...)...), c.want)
 	}
+}
+
+func tell(t *testing.T, what string, h api.History, want api.Errno) {
+	t.Helper()
+	agrees(t, "P5: "+what, h, want)
+	laid(t, "P7: "+what, h, want == api.OK)
+	extendsToAll(t, "P7: "+what, h)
 }
 
 func one(entries ...api.Entry) []api.Period { return []api.Period{period(entries...)} }
