@@ -29,17 +29,21 @@ var (
 		0000000000000005 fffffffffffffffb 0000000000000000 0000000000000000`)
 	exampleHead = "\xde\x52"
 
-	// Four periods, the first and the last without entries.
-	severalText, severalHead, _ = seal.Seal(api.History{
-		Accounts: []api.Account{{Name: "\x00", Line: 3}, {Name: "cash\xff"}, {Name: "owed by us!!", Line: 1}},
-		Periods: []api.Period{{}, {Entries: []api.Entry{
-			{Postings: []api.Posting{{Account: 1, Amount: 1<<63 - 1}, {Account: 2, Amount: -1<<63 + 1}}},
-			{Memo: "\x00\xffmemo of 20 bytes..", Postings: []api.Posting{{Account: 0, Amount: -300}, {Account: 2, Amount: 256}, {Account: 0, Amount: 44}}},
-		}}, {Entries: []api.Entry{
-			{Memo: "back", Postings: []api.Posting{{Account: 2, Amount: 1<<63 - 300}, {Account: 1, Amount: -1<<63 + 300}}},
-		}}, {}},
-	})
+	severalText, severalHead, _ = seal.Seal(several())
 )
+
+// several has four periods, the first and the last without entries.
+func several() api.History {
+	return api.History{
+		Accounts: []api.Account{{Name: "\x00", Line: 3}, {Name: "cash\xff"}, {Name: "owed by us!!", Line: 1}},
+		Periods: []api.Period{
+			period(),
+			period(entry("", 1, most, 2, -most), entry("\x00\xffmemo of 20 bytes..", 0, -300, 2, 256, 0, 44)),
+			period(entry("back", 2, most-299, 1, -most+299)),
+			period(),
+		},
+	}
+}
 
 // verifies: Verify answers of the text and the head this.
 func verifies(t *testing.T, what, text, head string, want api.Errno) {

@@ -25,18 +25,9 @@ func (b Book) History() api.History {
 
 func readHistory(r *lay.Reader) api.History {
 	r.Text(len(packageMark))
-	accounts := readList(r, readAccount)
-	periods := readList(r, func(r *lay.Reader) api.Period { return readPeriod(r, len(accounts)) })
+	accounts := lay.List(r, r.One(), readAccount)
+	periods := lay.List(r, r.One(), func(r *lay.Reader) api.Period { return readPeriod(r, len(accounts)) })
 	return api.History{Accounts: accounts, Periods: periods}
-}
-
-// readList reads how many there are, and so many.
-func readList[E any](r *lay.Reader, read func(*lay.Reader) E) []E {
-	var list []E
-	for range r.One() {
-		list = append(list, read(r))
-	}
-	return list
 }
 
 func readAccount(r *lay.Reader) api.Account {
@@ -46,7 +37,7 @@ func readAccount(r *lay.Reader) api.Account {
 
 // readPeriod passes over balances and totals: they are what the entries make.
 func readPeriod(r *lay.Reader, accounts int) api.Period {
-	entries := readList(r, readEntry)
+	entries := lay.List(r, r.One(), readEntry)
 	for range accounts + api.Lines {
 		r.Eight()
 	}
@@ -55,7 +46,7 @@ func readPeriod(r *lay.Reader, accounts int) api.Period {
 
 func readEntry(r *lay.Reader) api.Entry {
 	memo := r.Text(r.One())
-	return api.Entry{Memo: memo, Postings: readList(r, readPosting)}
+	return api.Entry{Memo: memo, Postings: lay.List(r, r.One(), readPosting)}
 }
 
 func readPosting(r *lay.Reader) api.Posting {

@@ -43,7 +43,6 @@ func (p Period) Text() string {
 	return t.String()
 }
 
-// many is the number of the entries, as a package and a header have it.
 func (p Period) many() string { return lay.One(len(p.entries)) }
 
 func (p Period) journal() string { return strings.Join(p.Entries(), "") }

@@ -48,3 +48,39 @@ func TestTextsThatRunOut(t *testing.T) {
 		t.Errorf("Text(3) out of two bytes = %q", got)
 	}
 }
+
+func TestNumbersInTwoBytesAreRead(t *testing.T) {
+	for n := range 1 << 16 {
+		if got := lay.Read(lay.Two(n)).Two(); got != n {
+			t.Errorf("Two, laid as %d = %d", n, got)
+		}
+	}
+}
+
+func TestThroughIsNotMoreAndNotLess(t *testing.T) {
+	for n := range 5 {
+		r := lay.Read("abc")
+		r.Text(n)
+		if got := r.IsThrough(); got != (n == 3) {
+			t.Errorf("IsThrough behind %d of 3 bytes = %t", n, got)
+		}
+	}
+	r := lay.Read("")
+	if !r.IsThrough() || r.One() != 0 || r.IsThrough() {
+		t.Error("a text of nothing is through until something is read")
+	}
+	r = lay.Read("a")
+	if r.Two(); r.IsThrough() {
+		t.Error("one byte is not through behind two")
+	}
+}
+
+func TestListsAreNoLongerThanTheirText(t *testing.T) {
+	one := (*lay.Reader).One
+	for many, want := range map[int]int{0: 0, 1: 1, 3: 3, 4: 4, 5: 4, 1 << 40: 4} { // what runs out is read too, so that it is told
+		r := lay.Read("abc")
+		if got := lay.List(r, many, one); len(got) != want || r.IsThrough() != (many == 3) {
+			t.Errorf("a list of %d out of 3 bytes = %d", many, got)
+		}
+	}
+}
